@@ -4,6 +4,7 @@ import (
 	"math/bits"
 
 	"sheave/api"
+	"sheave/words"
 )
 
 // number is one from 0 to 2^256 - 1, in words of 64 bits, the lowest first.
@@ -22,9 +23,7 @@ const wrapped = 38
 func load(a api.Key) number {
 	var n number
 	for i := range n {
-		b := a[8*i : 8*i+8]
-		n[i] = uint64(b[0]) | uint64(b[1])<<8 | uint64(b[2])<<16 | uint64(b[3])<<24 |
-			uint64(b[4])<<32 | uint64(b[5])<<40 | uint64(b[6])<<48 | uint64(b[7])<<56
+		n[i] = words.Of(a[8*i : 8*i+8])
 	}
 	return n
 }
@@ -33,9 +32,7 @@ func save(n number) api.Key {
 	n = least(n)
 	var a api.Key
 	for i, w := range n {
-		b := a[8*i : 8*i+8]
-		b[0], b[1], b[2], b[3] = byte(w), byte(w>>8), byte(w>>16), byte(w>>24)
-		b[4], b[5], b[6], b[7] = byte(w>>32), byte(w>>40), byte(w>>48), byte(w>>56)
+		words.Put(a[8*i:8*i+8], w)
 	}
 	return a
 }
@@ -74,7 +71,7 @@ func lessen(n number) number {
 		less[i], borrow = bits.Sub64(n[i], prime[i], borrow)
 	}
 	for i := range n {
-		n[i] = less[i] ^ -borrow&(less[i]^n[i])
+		n[i] = words.Pick(borrow, less[i], n[i])
 	}
 	return n
 }
@@ -100,21 +97,12 @@ func difference(a, b number) number {
 	return n
 }
 
-// step is a * b + c + d, which is never beyond two words.
-func step(a, b, c, d uint64) (high, low uint64) {
-	high, low = bits.Mul64(a, b)
-	low, carry := bits.Add64(low, c, 0)
-	high += carry
-	low, carry = bits.Add64(low, d, 0)
-	return high + carry, low
-}
-
 func product(a, b number) number {
 	var wide [8]uint64
 	for i := range a {
 		var carry uint64
 		for j := range b {
-			carry, wide[i+j] = step(a[i], b[j], wide[i+j], carry)
+			carry, wide[i+j] = words.Step(a[i], b[j], wide[i+j], carry)
 		}
 		wide[i+4] = carry
 	}
@@ -126,7 +114,7 @@ func fold(wide [8]uint64) number {
 	var n number
 	var carry uint64
 	for i := range n {
-		carry, n[i] = step(wide[i+4], wrapped, wide[i], carry)
+		carry, n[i] = words.Step(wide[i+4], wrapped, wide[i], carry)
 	}
 	return wrap(n, carry)
 }
