@@ -17,6 +17,16 @@ func Put(b []byte, w uint64) {
 	b[4], b[5], b[6], b[7] = byte(w>>32), byte(w>>40), byte(w>>48), byte(w>>56)
 }
 
+// Of32 is the word of the first four bytes.
+func Of32(b []byte) uint32 {
+	return uint32(b[0]) | uint32(b[1])<<8 | uint32(b[2])<<16 | uint32(b[3])<<24
+}
+
+// Put32 writes a word's four bytes to the beginning of b.
+func Put32(b []byte, w uint32) {
+	b[0], b[1], b[2], b[3] = byte(w), byte(w>>8), byte(w>>16), byte(w>>24)
+}
+
 // Pick is a, if bit is 0, and b, if it is 1.
 func Pick(bit, a, b uint64) uint64 { return a ^ -bit&(a^b) }
 

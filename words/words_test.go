@@ -26,6 +26,23 @@ func TestOfAndPut(t *testing.T) {
 	}
 }
 
+// The same of words of 32 bits, with four bytes.
+func TestOf32AndPut32(t *testing.T) {
+	for _, wide := range edges {
+		for _, w := range []uint32{uint32(wide), uint32(wide >> 32)} {
+			want := append(binary.LittleEndian.AppendUint32(nil, w), 0x5a)
+			got := bytes.Repeat([]byte{0x5a}, 5)
+			words.Put32(got, w)
+			if !bytes.Equal(got, want) {
+				t.Errorf("Put32 of %x: %x", w, got)
+			}
+			if back := words.Of32(want); back != w {
+				t.Errorf("Of32(%x): %x", want, back)
+			}
+		}
+	}
+}
+
 func TestPick(t *testing.T) {
 	for _, a := range edges {
 		for _, b := range edges {
