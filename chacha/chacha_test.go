@@ -3,12 +3,12 @@ package chacha_test
 import (
 	"bytes"
 	"encoding/binary"
-	"encoding/hex"
 	"slices"
 	"testing"
 
 	"sheave/api"
 	"sheave/chacha"
+	"sheave/sample"
 )
 
 const (
@@ -17,25 +17,6 @@ const (
 	upwards   = "000102030405060708090a0b0c0d0e0f101112131415161718191a1b1c1d1e1f"
 	sunscreen = "Ladies and Gentlemen of the class of '99: If I could offer you only one tip for the future, sunscreen would be it."
 )
-
-// unhex reads hexadecimal digits.
-func unhex(s string) []byte {
-	b, err := hex.DecodeString(s)
-	if err != nil {
-		panic(err)
-	}
-	return b
-}
-
-// drawn are bytes without a rule; the same each time for a seed.
-func drawn(seed uint64, many int) []byte {
-	b := make([]byte, many)
-	for i := range b {
-		seed = seed*6364136223846793005 + 1442695040888963407
-		b[i] = byte(seed >> 56)
-	}
-	return b
-}
 
 // setting is what a stream hangs on.
 type setting struct {
@@ -48,11 +29,11 @@ func (s setting) xor(b []byte) []byte { return chacha.Xor(s.key, s.counter, s.no
 
 // settings are keys and nonces of noughts, of ones and without a rule, each with the counters at which something ends.
 func settings() []setting {
-	keys := []api.Key{api.Key(unhex(noughts)), api.Key(unhex(ones)), api.Key(unhex(upwards))}
-	nonces := []api.Nonce{{}, api.Nonce(unhex(ones)[:12]), {7: 0x4a}}
+	keys := []api.Key{api.Key(sample.Hex(noughts)), api.Key(sample.Hex(ones)), api.Key(sample.Hex(upwards))}
+	nonces := []api.Nonce{{}, api.Nonce(sample.Hex(ones)[:12]), {7: 0x4a}}
 	for seed := range uint64(4) {
-		keys = append(keys, api.Key(drawn(seed, 32)))
-		nonces = append(nonces, api.Nonce(drawn(seed+100, 12)))
+		keys = append(keys, api.Key(sample.Drawn(seed, 32)))
+		nonces = append(nonces, api.Nonce(sample.Drawn(seed+100, 12)))
 	}
 	var l []setting
 	for i, key := range keys {
@@ -162,7 +143,7 @@ func TestQuarterStepByStep(t *testing.T) {
 		check(x)
 	}
 	for seed := range uint64(500) {
-		b := drawn(seed, 16)
+		b := sample.Drawn(seed, 16)
 		var x [4]uint32
 		for i := range x {
 			x[i] = binary.LittleEndian.Uint32(b[4*i:])
@@ -188,8 +169,8 @@ func TestBlockOfKnown(t *testing.T) {
 		{ones, 0, ones[:24], "d6e63495eafed7fc3bf8e7c419fa77be8234a6a49df517ebab06c8f65d9f7a17d3a64d4b97c911e6995b65c79336220cb63b703e25d3d45f5fee90a37bbe0535"},
 		{ones, 0xffffffff, ones[:24], "d72b21cfa4b6b0c41d61f62b8a11159c6a4f63bc56c2035796c7ad37811121bbec56d54a530f3a933dd28a50feb23bfaf64f405be985f3718bdf4683e96be749"},
 	} {
-		got := chacha.Block(api.Key(unhex(x.key)), x.counter, api.Nonce(unhex(x.nonce)))
-		if !bytes.Equal(got[:], unhex(x.want)) {
+		got := chacha.Block(api.Key(sample.Hex(x.key)), x.counter, api.Nonce(sample.Hex(x.nonce)))
+		if !bytes.Equal(got[:], sample.Hex(x.want)) {
 			t.Errorf("of %s, %x, %s: %x", x.key, x.counter, x.nonce, got)
 		}
 	}
@@ -235,12 +216,12 @@ func TestBlockHangsOnEachBit(t *testing.T) {
 
 // P4.3: the text of RFC 8439 (2.4.2).
 func TestXorOfKnown(t *testing.T) {
-	s := setting{api.Key(unhex(upwards)), 1, api.Nonce{7: 0x4a}}
+	s := setting{api.Key(sample.Hex(upwards)), 1, api.Nonce{7: 0x4a}}
 	want := "6e2e359a2568f98041ba0728dd0d6981e97e7aec1d4360c20a27afccfd9fae0b" +
 		"f91b65c5524733ab8f593dabcd62b3571639d624e65152ab8f530c359f0861d8" +
 		"07ca0dbf500d6a6156a38e088a22b65e52bc514d16ccf806818ce91ab7793736" +
 		"5af90bbf74a35be6b40b8eedf2785e42874d"
-	if got := s.xor([]byte(sunscreen)); !bytes.Equal(got, unhex(want)) {
+	if got := s.xor([]byte(sunscreen)); !bytes.Equal(got, sample.Hex(want)) {
 		t.Errorf("%x", got)
 	}
 }
@@ -256,7 +237,7 @@ func TestXorOfNone(t *testing.T) {
 
 // P4.3: over noughts it is one block behind the other; behind the last counter comes 0.
 func TestXorGoesOnFromTheLastCounter(t *testing.T) {
-	key, nonce := api.Key(unhex(upwards)), api.Nonce(unhex(ones)[:12])
+	key, nonce := api.Key(sample.Hex(upwards)), api.Nonce(sample.Hex(ones)[:12])
 	var want []byte
 	for _, counter := range []uint32{0xfffffffe, 0xffffffff, 0, 1} {
 		block := chacha.Block(key, counter, nonce)
@@ -273,7 +254,7 @@ func TestXorGoesOnFromTheLastCounter(t *testing.T) {
 func TestXorByteByByte(t *testing.T) {
 	for i, s := range settings() {
 		for _, many := range lengths {
-			text := drawn(uint64(i+1000), many)
+			text := sample.Drawn(uint64(i+1000), many)
 			if got := s.xor(text); !bytes.Equal(got, slowXor(s, text)) {
 				t.Errorf("of %x, %d bytes: %x", s, many, got)
 			}
@@ -283,9 +264,9 @@ func TestXorByteByByte(t *testing.T) {
 
 // P4.3: what was handed in stays as it was, with the room behind it; what is answered is new memory.
 func TestXorLeavesItsText(t *testing.T) {
-	s := setting{api.Key(unhex(upwards)), 0xffffffff, api.Nonce{7: 0x4a}}
+	s := setting{api.Key(sample.Hex(upwards)), 0xffffffff, api.Nonce{7: 0x4a}}
 	for _, many := range lengths {
-		whole := drawn(5, many+200)
+		whole := sample.Drawn(5, many+200)
 		kept := bytes.Clone(whole)
 		got := s.xor(whole[:many])
 		again := s.xor(whole[:many])
@@ -296,7 +277,7 @@ func TestXorLeavesItsText(t *testing.T) {
 		for i := range got {
 			got[i] ^= 0xff
 		}
-		_ = append(got, drawn(6, 200)...)
+		_ = append(got, sample.Drawn(6, 200)...)
 		if !bytes.Equal(whole, kept) {
 			t.Errorf("%d bytes: the answer shares memory with the text", many)
 		}
@@ -314,7 +295,7 @@ func TestXorLeavesItsText(t *testing.T) {
 func TestXorTwice(t *testing.T) {
 	for i, s := range settings() {
 		for _, many := range lengths {
-			for _, text := range [][]byte{drawn(uint64(i), many), make([]byte, many), bytes.Repeat([]byte{0xff}, many)} {
+			for _, text := range [][]byte{sample.Drawn(uint64(i), many), make([]byte, many), bytes.Repeat([]byte{0xff}, many)} {
 				once := s.xor(text)
 				if len(once) != many || many >= 63 && bytes.Equal(once, text) {
 					t.Errorf("of %x, %d bytes: %x", s, many, once)
@@ -330,7 +311,7 @@ func TestXorTwice(t *testing.T) {
 // P4.4: what Xor gives of the first bytes is the first of what it gives, wherever the text is cut.
 func TestXorOfTheFirstBytes(t *testing.T) {
 	for i, s := range settings() {
-		text := drawn(uint64(i), 200)
+		text := sample.Drawn(uint64(i), 200)
 		whole := s.xor(text)
 		for cut := range len(text) + 1 {
 			if got := s.xor(text[:cut]); !bytes.Equal(got, whole[:cut]) {
@@ -341,7 +322,7 @@ func TestXorOfTheFirstBytes(t *testing.T) {
 }
 
 func BenchmarkBlock(b *testing.B) {
-	key := api.Key(unhex(upwards))
+	key := api.Key(sample.Hex(upwards))
 	for b.Loop() {
 		block := chacha.Block(key, 1, api.Nonce{})
 		key[0] = block[0]
@@ -349,7 +330,7 @@ func BenchmarkBlock(b *testing.B) {
 }
 
 func BenchmarkXor(b *testing.B) {
-	s, text := setting{counter: 1}, drawn(1, api.MaxRecord)
+	s, text := setting{counter: 1}, sample.Drawn(1, api.MaxRecord)
 	b.SetBytes(int64(len(text)))
 	for b.Loop() {
 		s.xor(text)

@@ -8,6 +8,7 @@ import (
 
 	"sheave/api"
 	"sheave/clamp"
+	"sheave/sample"
 )
 
 // q is 2^130 - 5, reckoned here apart from the package's own table.
@@ -71,13 +72,9 @@ func edges() []api.Big {
 
 // several are bytes without a rule that the arithmetic could lean on; the same each time.
 func several(many int) []api.Big {
-	state := uint64(1)
-	l := make([]api.Big, many)
-	for i := range l {
-		for j := range l[i] {
-			state = state*6364136223846793005 + 1442695040888963407
-			l[i][j] = byte(state >> 56)
-		}
+	var l []api.Big
+	for b := range slices.Chunk(sample.Drawn(1, 17*many), 17) {
+		l = append(l, api.Big(b))
 	}
 	return l
 }

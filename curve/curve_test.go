@@ -7,6 +7,7 @@ import (
 
 	"sheave/api"
 	"sheave/curve"
+	"sheave/sample"
 )
 
 // p is 2^255 - 19, reckoned here apart from the package's own table.
@@ -69,13 +70,9 @@ func edges() []api.Key {
 
 // several are bytes without a rule that the arithmetic could lean on; the same each time.
 func several(many int) []api.Key {
-	state := uint64(1)
-	l := make([]api.Key, many)
-	for i := range l {
-		for j := range l[i] {
-			state = state*6364136223846793005 + 1442695040888963407
-			l[i][j] = byte(state >> 56)
-		}
+	var l []api.Key
+	for b := range slices.Chunk(sample.Drawn(1, 32*many), 32) {
+		l = append(l, api.Key(b))
 	}
 	return l
 }

@@ -2,26 +2,20 @@ package ladder_test
 
 import (
 	"crypto/ecdh"
-	"encoding/hex"
 	"math/big"
 	"slices"
 	"testing"
 
 	"sheave/api"
 	"sheave/ladder"
+	"sheave/sample"
 )
 
 // p is 2^255 - 19.
 var p = new(big.Int).Sub(new(big.Int).Lsh(big.NewInt(1), 255), big.NewInt(19))
 
 // key reads 64 hexadecimal digits.
-func key(s string) api.Key {
-	b, err := hex.DecodeString(s)
-	if err != nil {
-		panic(err)
-	}
-	return api.Key(b)
-}
+func key(s string) api.Key { return api.Key(sample.Hex(s)) }
 
 // value is the number of 32 bytes, the lowest first.
 func value(a api.Key) *big.Int {
@@ -48,13 +42,9 @@ func topSet(a api.Key) api.Key {
 
 // several are bytes without a rule; the same each time.
 func several(many int) []api.Key {
-	state := uint64(2)
-	l := make([]api.Key, many)
-	for i := range l {
-		for j := range l[i] {
-			state = state*6364136223846793005 + 1442695040888963407
-			l[i][j] = byte(state >> 56)
-		}
+	var l []api.Key
+	for b := range slices.Chunk(sample.Drawn(2, 32*many), 32) {
+		l = append(l, api.Key(b))
 	}
 	return l
 }
