@@ -72,17 +72,6 @@ func settings() []setting {
 	return l
 }
 
-// kinds are so many bytes: of noughts, of ones, and without a rule.
-func kinds(many int) [][]byte {
-	return [][]byte{make([]byte, many), bytes.Repeat([]byte{0xff}, many), sample.Drawn(uint64(many), many)}
-}
-
-func turned(b []byte, bit int) []byte {
-	b = bytes.Clone(b)
-	b[bit/8] ^= 1 << (bit % 8)
-	return b
-}
-
 // inPieces are bytes with noughts behind, laid one by one until they are a multiple of 16.
 func inPieces(b []byte) []byte {
 	b = bytes.Clone(b)
@@ -178,9 +167,9 @@ func TestSealOfLong(t *testing.T) {
 func TestSealAsTheChapterTellsIt(t *testing.T) {
 	for _, s := range settings() {
 		for _, b := range besides {
-			for i, beside := range kinds(b) {
+			for i, beside := range sample.Kinds(b) {
 				for _, m := range texts {
-					text := kinds(m)[(i+m)%3]
+					text := sample.Kinds(m)[(i+m)%3]
 					if got, want := s.seal(beside, text), slowSeal(s, beside, text); !bytes.Equal(got, want) {
 						t.Errorf("by %x, beside %x, of %x: %x, not %x", s, beside, text, got, want)
 					}
@@ -217,16 +206,16 @@ func TestTagHangsOnAll(t *testing.T) {
 	s, beside, text := drawn(1), sample.Drawn(2, 33), sample.Drawn(3, 70)
 	look("all as it is", s, beside, text)
 	for bit := range 256 {
-		look("a bit of the key", setting{api.Key(turned(s.key[:], bit)), s.nonce}, beside, text)
+		look("a bit of the key", setting{api.Key(sample.Turned(s.key[:], bit)), s.nonce}, beside, text)
 	}
 	for bit := range 96 {
-		look("a bit of the nonce", setting{s.key, api.Nonce(turned(s.nonce[:], bit))}, beside, text)
+		look("a bit of the nonce", setting{s.key, api.Nonce(sample.Turned(s.nonce[:], bit))}, beside, text)
 	}
 	for bit := range 8 * len(beside) {
-		look("a bit of what is beside", s, turned(beside, bit), text)
+		look("a bit of what is beside", s, sample.Turned(beside, bit), text)
 	}
 	for bit := range 8 * len(text) {
-		look("a bit of the text", s, beside, turned(text, bit))
+		look("a bit of the text", s, beside, sample.Turned(text, bit))
 	}
 	for more := 1; more < 40; more++ {
 		look("noughts behind what is beside", s, append(bytes.Clone(beside), make([]byte, more)...), text)
@@ -245,7 +234,7 @@ func TestOpenTellsShort(t *testing.T) {
 			good := s.seal(beside, sample.Drawn(5, 20))
 			bare := s.seal(beside, nil)
 			for many := range 16 {
-				for _, sealed := range append(kinds(many), good[:many], good[len(good)-many:], bare[:many]) {
+				for _, sealed := range append(sample.Kinds(many), good[:many], good[len(good)-many:], bare[:many]) {
 					s.refuses(t, beside, sealed, api.ErrShort)
 				}
 			}
@@ -259,7 +248,7 @@ func TestOpenTellsForged(t *testing.T) {
 		for _, b := range besides {
 			beside := sample.Drawn(6, b)
 			for _, m := range texts {
-				for _, sealed := range kinds(m + 16) {
+				for _, sealed := range sample.Kinds(m + 16) {
 					s.refuses(t, beside, sealed, api.ErrForged)
 				}
 			}
@@ -271,9 +260,9 @@ func TestOpenTellsForged(t *testing.T) {
 func TestOpenOfTheShortest(t *testing.T) {
 	for _, s := range settings() {
 		for _, b := range besides {
-			for _, beside := range kinds(b) {
+			for _, beside := range sample.Kinds(b) {
 				s.opens(t, beside, slowSeal(s, beside, nil), nil)
-				for _, text := range kinds(1) {
+				for _, text := range sample.Kinds(1) {
 					s.opens(t, beside, slowSeal(s, beside, text), text)
 				}
 			}
@@ -287,7 +276,7 @@ func TestOpenOfAnyWithItsTag(t *testing.T) {
 		for _, b := range besides {
 			for _, m := range texts {
 				beside := sample.Drawn(7, b)
-				for _, hidden := range kinds(m) {
+				for _, hidden := range sample.Kinds(m) {
 					text := chacha.Xor(s.key, 1, s.nonce, hidden)
 					sealed := slowSeal(s, beside, text)
 					if !bytes.Equal(sealed[:m], hidden) {
@@ -310,14 +299,14 @@ func TestOpenOfChanged(t *testing.T) {
 			s.refuses(t, beside, good[len(good)-cut:], api.ErrForged)
 		}
 		for _, more := range []int{1, 15, 16, 17} {
-			for _, b := range kinds(more) {
+			for _, b := range sample.Kinds(more) {
 				s.refuses(t, beside, slices.Concat(good, b), api.ErrForged)
 				s.refuses(t, beside, slices.Concat(b, good), api.ErrForged)
 				s.refuses(t, beside, slices.Concat(good[:m], b, good[m:]), api.ErrForged)
 			}
 		}
 		for bit := range 8 * len(good) {
-			s.refuses(t, beside, turned(good, bit), api.ErrForged)
+			s.refuses(t, beside, sample.Turned(good, bit), api.ErrForged)
 		}
 	}
 }
@@ -330,13 +319,13 @@ func TestOpenByOthers(t *testing.T) {
 			beside := sample.Drawn(12, b)
 			good := s.seal(beside, sample.Drawn(13, m))
 			for bit := range 256 {
-				setting{api.Key(turned(s.key[:], bit)), s.nonce}.refuses(t, beside, good, api.ErrForged)
+				setting{api.Key(sample.Turned(s.key[:], bit)), s.nonce}.refuses(t, beside, good, api.ErrForged)
 			}
 			for bit := range 96 {
-				setting{s.key, api.Nonce(turned(s.nonce[:], bit))}.refuses(t, beside, good, api.ErrForged)
+				setting{s.key, api.Nonce(sample.Turned(s.nonce[:], bit))}.refuses(t, beside, good, api.ErrForged)
 			}
 			for bit := range 8 * b {
-				s.refuses(t, turned(beside, bit), good, api.ErrForged)
+				s.refuses(t, sample.Turned(beside, bit), good, api.ErrForged)
 			}
 			for cut := range b {
 				s.refuses(t, beside[:cut], good, api.ErrForged)
@@ -406,7 +395,7 @@ func TestOpenLeavesWhatItIsGiven(t *testing.T) {
 			got, err := s.open(beside, sealed)
 			again, _ := s.open(beside, sealed)
 			s.refuses(t, beside, allSealed, api.ErrForged)
-			s.refuses(t, beside, turned(sealed, 8*m), api.ErrForged)
+			s.refuses(t, beside, sample.Turned(sealed, 8*m), api.ErrForged)
 			s.refuses(t, beside, sealed[:15], api.ErrShort)
 			if err != api.OK || !bytes.Equal(got, text) {
 				t.Errorf("%d and %d bytes: %x, error %d", b, m, got, err)
@@ -449,9 +438,9 @@ func TestOfOneMemory(t *testing.T) {
 func TestOpenOfSeal(t *testing.T) {
 	for _, s := range settings() {
 		for _, b := range besides {
-			for _, beside := range kinds(b) {
+			for _, beside := range sample.Kinds(b) {
 				for _, m := range append(slices.Clone(texts), api.MaxRecord, 1000) {
-					for _, text := range kinds(m) {
+					for _, text := range sample.Kinds(m) {
 						sealed := s.seal(beside, text)
 						if len(sealed) != m+16 || m >= 15 && bytes.Contains(sealed, text) {
 							t.Errorf("by %x, beside %x, of %x: %x", s, beside, text, sealed)
@@ -469,10 +458,10 @@ func TestOpenWithABitOfTheTagTurned(t *testing.T) {
 	for _, s := range settings() {
 		for i, b := range besides {
 			for _, m := range texts {
-				beside, text := kinds(b)[(i+m)%3], kinds(m)[i%3]
+				beside, text := sample.Kinds(b)[(i+m)%3], sample.Kinds(m)[i%3]
 				sealed := s.seal(beside, text)
 				for bit := 8 * m; bit < 8*len(sealed); bit++ {
-					s.refuses(t, beside, turned(sealed, bit), api.ErrForged)
+					s.refuses(t, beside, sample.Turned(sealed, bit), api.ErrForged)
 				}
 				s.opens(t, beside, sealed, text)
 			}

@@ -40,11 +40,6 @@ func counted(many int) []byte {
 	return b
 }
 
-// kinds are texts of so many bytes: of noughts, of ones, and without a rule.
-func kinds(many int) [][]byte {
-	return [][]byte{make([]byte, many), bytes.Repeat([]byte{0xff}, many), sample.Drawn(uint64(many), many)}
-}
-
 // rooted are the first 32 bits behind the point of the square roots of the first eight primes: where RFC 7693 takes IV from.
 func rooted() [8]uint32 {
 	var iv [8]uint32
@@ -196,9 +191,9 @@ func TestSumOfAllSizes(t *testing.T) {
 func TestSumPieceByPiece(t *testing.T) {
 	for _, size := range []int{1, 2, 16, 31, 32} {
 		for _, keyed := range sumKeys {
-			for _, key := range kinds(keyed) {
+			for _, key := range sample.Kinds(keyed) {
 				for _, many := range lengths {
-					for _, text := range kinds(many) {
+					for _, text := range sample.Kinds(many) {
 						if got, want := sum(t, key, size, text), slowSum(key, size, text); !bytes.Equal(got, want) {
 							t.Errorf("of %x, %d, %x: %x, not %x", key, size, text, got, want)
 						}
@@ -356,7 +351,7 @@ func TestHashOfKnown(t *testing.T) {
 // P6.2: Hash is Sum of no key and 32.
 func TestHashIsSum(t *testing.T) {
 	for _, many := range lengths {
-		for _, text := range kinds(many) {
+		for _, text := range sample.Kinds(many) {
 			got := blake.Hash(text)
 			if want := sum(t, nil, 32, text); !bytes.Equal(got[:], want) {
 				t.Errorf("of %x: %x, not %x", text, got, want)
@@ -417,7 +412,7 @@ func (w *whole) BlockSize() int      { return 64 }
 // P6.2: keys and texts of noughts, of ones and without a rule, against the library's hmac over the slow reckoning.
 func TestMacAgainstTheLibrary(t *testing.T) {
 	for _, keyed := range macKeys {
-		for _, key := range kinds(keyed) {
+		for _, key := range sample.Kinds(keyed) {
 			for _, many := range lengths {
 				text := sample.Drawn(9, many)
 				h := hmac.New(func() hash.Hash { return new(whole) }, key)
@@ -466,7 +461,7 @@ func TestHashAndMacLeaveKeyAndText(t *testing.T) {
 // P6.3: noughts behind a key of less than 64 bytes, up to 64 of them in all, do not change its macs.
 func TestMacByKeysWithNoughtsBehind(t *testing.T) {
 	for _, keyed := range []int{0, 1, 2, 31, 32, 33, 62, 63} {
-		for _, key := range kinds(keyed) {
+		for _, key := range sample.Kinds(keyed) {
 			for _, many := range lengths {
 				text := sample.Drawn(14, many)
 				want := blake.Mac(key, text)

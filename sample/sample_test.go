@@ -46,3 +46,28 @@ func TestDrawn(t *testing.T) {
 		seen[string(long)] = seed
 	}
 }
+
+// As many bytes as are asked for, of three kinds, the same each time.
+func TestKinds(t *testing.T) {
+	for many := range 40 {
+		kinds := sample.Kinds(many)
+		if len(kinds) != 3 {
+			t.Fatalf("%d bytes: %x", many, kinds)
+		}
+		for i, want := range [][]byte{make([]byte, many), bytes.Repeat([]byte{255}, many), sample.Drawn(uint64(many), many)} {
+			if !bytes.Equal(kinds[i], want) {
+				t.Errorf("%d bytes: %x, not %x", many, kinds[i], want)
+			}
+		}
+	}
+}
+
+// One bit is another, and what was handed in stays as it was.
+func TestTurned(t *testing.T) {
+	for bit, want := range map[int]string{0: "01ff00", 7: "80ff00", 8: "00fe00", 15: "007f00", 23: "00ff80"} {
+		b := []byte{0, 255, 0}
+		if got := sample.Turned(b, bit); !bytes.Equal(got, sample.Hex(want)) || !bytes.Equal(b, []byte{0, 255, 0}) {
+			t.Errorf("bit %d: %x of %x", bit, got, b)
+		}
+	}
+}
