@@ -426,14 +426,6 @@ func isNotDecoded(t *testing.T, b []byte, want api.Errno) {
 	}
 }
 
-// spoil makes each byte another one, with the room behind the last.
-func spoil(b []byte) {
-	b = b[:cap(b)]
-	for i := range b {
-		b[i] ^= 0xff
-	}
-}
-
 func spoilRanges(l []api.Range) {
 	l = l[:cap(l)]
 	for i := range l {

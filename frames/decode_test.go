@@ -409,14 +409,14 @@ func TestDecodeLeavesWhatItIsGiven(t *testing.T) {
 			t.Errorf("%x: it, or what is behind it, is changed, or counts: %+v, error %d", row, l, e)
 		}
 		for i := range l {
-			spoil(l[i].Bytes)
+			sample.Spoil(l[i].Bytes)
 			spoilRanges(l[i].Ranges)
 			l[i].Token[0] ^= 1
 			if !bytes.Equal(room, kept) || !slices.EqualFunc(l[i+1:], want[i+1:], equal) || !slices.EqualFunc(again, want, equal) {
 				t.Errorf("%x: it, or another list, is changed with those of frame %d", row, i)
 			}
 		}
-		spoil(room)
+		sample.Spoil(room)
 		if !slices.EqualFunc(again, want, equal) {
 			t.Errorf("%x: what was answered is changed with it", row)
 		}

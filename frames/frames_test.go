@@ -386,12 +386,12 @@ func TestEncodeLeavesWhatItIsGiven(t *testing.T) {
 		if !reflect.DeepEqual(whole(room), kept) {
 			t.Errorf("%+v: it, or what is behind it, is changed", l)
 		}
-		spoil(b)
+		sample.Spoil(b)
 		if !reflect.DeepEqual(whole(room), kept) || !bytes.Equal(again, want) {
 			t.Errorf("%+v: it, or a second answer, is changed with the first", l)
 		}
 		for i := range room {
-			spoil(room[i].Bytes)
+			sample.Spoil(room[i].Bytes)
 			spoilRanges(room[i].Ranges)
 			room[i].Token[0] ^= 1
 		}

@@ -496,14 +496,6 @@ func putting() map[string]func(b []byte) ([]byte, api.Errno) {
 	return l
 }
 
-// spoil makes each byte another one, with the room behind the last.
-func spoil(b []byte) {
-	b = b[:cap(b)]
-	for i := range b {
-		b[i] ^= 0xff
-	}
-}
-
 // P9.1, P9.2, P9.3: what stands ahead stays as it was, with the room behind it, and what is answered shares nothing with it.
 func TestPutLeavesWhatItIsGiven(t *testing.T) {
 	for what, put := range putting() {
@@ -516,11 +508,11 @@ func TestPutLeavesWhatItIsGiven(t *testing.T) {
 				t.Errorf("%s behind %d bytes: they, or what is behind them, are changed", what, many)
 			}
 			want := bytes.Clone(got)
-			spoil(got)
+			sample.Spoil(got)
 			if !bytes.Equal(room, kept) || !bytes.Equal(again, want) {
 				t.Errorf("%s behind %d bytes: they or a second answer are changed with the first", what, many)
 			}
-			spoil(room)
+			sample.Spoil(room)
 			if later, e := put(kept[:many:many]); !bytes.Equal(later, want) || !bytes.Equal(again, want) || e != err {
 				t.Errorf("%s behind %d bytes: another answer without room, or one that is changed with them", what, many)
 			}
@@ -536,12 +528,12 @@ func TestPutBytesLeavesTheText(t *testing.T) {
 		got, err := octets.PutBytes([]byte("ahead"), room[:many])
 		want := slices.Concat([]byte("ahead"), leastOf(many), kept[:many])
 		isBytes(t, "PutBytes", got, err, want)
-		spoil(got)
+		sample.Spoil(got)
 		if !bytes.Equal(room, kept) {
 			t.Errorf("%d bytes: the text, or what is behind it, is changed", many)
 		}
 		got, err = octets.PutBytes([]byte("ahead"), room[:many])
-		spoil(room)
+		sample.Spoil(room)
 		isBytes(t, "PutBytes, with the text changed later", got, err, want)
 
 		one := bytes.Clone(kept)
@@ -607,12 +599,12 @@ func TestTakeLeavesWhatItIsGiven(t *testing.T) {
 				}
 				want := cloned(got)
 				for i, b := range got {
-					spoil(b)
+					sample.Spoil(b)
 					if !bytes.Equal(room, kept) || !same(again, want) || !same(got[i+1:], want[i+1:]) {
 						t.Errorf("%s of %x: it or another answer is changed with answer %d", what, all, i)
 					}
 				}
-				spoil(room)
+				sample.Spoil(room)
 				if later := take(all[:len(all):len(all)]); !same(later, want) || !same(again, want) {
 					t.Errorf("%s of %x: another answer without room, or one that is changed with it", what, all)
 				}

@@ -200,16 +200,3 @@ func isReadAsSaid(t *testing.T, b []byte) {
 		isNotParsed(t, b, e)
 	}
 }
-
-// spoil makes each byte another one, with the room behind the last.
-func spoil(b []byte) {
-	b = b[:cap(b)]
-	for i := range b {
-		b[i] ^= 0xff
-	}
-}
-
-// roomy are the same bytes with room behind them, filled with what must stay.
-func roomy(b []byte) []byte { return append(bytes.Clone(b), text(400)...)[:len(b)] }
-
-func whole(b []byte) []byte { return bytes.Clone(b[:cap(b)]) }

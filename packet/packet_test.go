@@ -235,23 +235,23 @@ func TestPrintLeavesWhatItIsGiven(t *testing.T) {
 	}
 	for _, p := range l {
 		room := p
-		room.Body = roomy(p.Body)
-		kept := whole(room.Body)
+		room.Body = sample.Roomy(p.Body)
+		kept := sample.Whole(room.Body)
 		b, e := packet.Print(room)
 		head := packet.Head(room)
 		packet.Nonce(room)
 		again, _ := packet.Print(room)
 		headAgain := packet.Head(room)
 		wantBytes, wantHead := bytes.Clone(b), bytes.Clone(head)
-		spoil(b)
-		spoil(head)
-		if !bytes.Equal(whole(room.Body), kept) {
+		sample.Spoil(b)
+		sample.Spoil(head)
+		if !bytes.Equal(sample.Whole(room.Body), kept) {
 			t.Errorf("%v: its body, or what is behind it, is changed", told(p))
 		}
 		if !bytes.Equal(again, wantBytes) || !bytes.Equal(headAgain, wantHead) {
 			t.Errorf("%v: a second answer is changed with the first", told(p))
 		}
-		spoil(room.Body)
+		sample.Spoil(room.Body)
 		if later, f := packet.Print(p); f != e || !bytes.Equal(later, wantBytes) || !bytes.Equal(again, wantBytes) {
 			t.Errorf("%v: another answer without room, or one that is changed with it", told(p))
 		}

@@ -111,19 +111,19 @@ func TestParseLeavesWhatItIsGiven(t *testing.T) {
 		l = append(l, k.bytes())
 	}
 	for _, b := range l {
-		room := roomy(b)
-		kept := whole(room)
+		room := sample.Roomy(b)
+		kept := sample.Whole(room)
 		p, e := packet.Parse(room)
 		again, _ := packet.Parse(room)
 		want := bytes.Clone(p.Body)
-		spoil(p.Body)
-		if !bytes.Equal(whole(room), kept) {
+		sample.Spoil(p.Body)
+		if !bytes.Equal(sample.Whole(room), kept) {
 			t.Errorf("%x: it, or what is behind it, is changed", b)
 		}
 		if !bytes.Equal(again.Body, want) {
 			t.Errorf("%x: a second answer is changed with the first", b)
 		}
-		spoil(room)
+		sample.Spoil(room)
 		if later, f := packet.Parse(b); f != e || !equal(later, again) || !bytes.Equal(again.Body, want) {
 			t.Errorf("%x: another answer without room, or one that is changed with it", b)
 		}

@@ -1,4 +1,4 @@
-// Package sample is what the tests of several layers have in common: bytes to try them with. No layer stands on it.
+// Package sample is what the tests of several layers have in common: bytes and numbers to try them with. No layer stands on it.
 package sample
 
 import (
@@ -42,4 +42,37 @@ func Turned(b []byte, bit int) []byte {
 	b = bytes.Clone(b)
 	b[bit/8] ^= 1 << (bit % 8)
 	return b
+}
+
+// Spoil makes each byte another one, with the room behind the last: who still leans on them then is seen.
+func Spoil(b []byte) {
+	b = b[:cap(b)]
+	for i := range b {
+		b[i] ^= 0xff
+	}
+}
+
+// Roomy are the same bytes with room behind them, filled with what must stay.
+func Roomy(b []byte) []byte { return append(bytes.Clone(b), Drawn(99, 400)...)[:len(b)] }
+
+// Whole are copies of the bytes and of what is in the room behind them.
+func Whole(b []byte) []byte { return bytes.Clone(b[:cap(b)]) }
+
+// Draw are numbers without a rule that the code could lean on, each below the one that is asked for; the same row each time for
+// a seed.
+func Draw(seed uint64) func(below int) int {
+	const size = 6
+	var b []byte
+	return func(below int) int {
+		if len(b) == 0 {
+			b = Drawn(seed, size<<13)
+			seed += 1 << 32
+		}
+		n := 0
+		for _, x := range b[:size] {
+			n = n<<8 | int(x)
+		}
+		b = b[size:]
+		return n % below
+	}
 }

@@ -71,3 +71,52 @@ func TestTurned(t *testing.T) {
 		}
 	}
 }
+
+// Every byte is another one, those behind the last too, and none outside.
+func TestSpoil(t *testing.T) {
+	all := []byte{1, 2, 3, 4, 5}
+	sample.Spoil(all[1:2:4])
+	if want := []byte{1, 253, 252, 251, 5}; !bytes.Equal(all, want) {
+		t.Errorf("%x, not %x", all, want)
+	}
+	sample.Spoil(nil)
+}
+
+// The same bytes, of their own, with room behind them that is not of noughts.
+func TestRoomyAndWhole(t *testing.T) {
+	for _, many := range []int{0, 1, 40} {
+		b := sample.Drawn(2, many)
+		got := sample.Roomy(b)
+		room := sample.Whole(got)[many:]
+		if !bytes.Equal(got, b) || len(room) < 300 || bytes.Equal(room, make([]byte, len(room))) {
+			t.Errorf("%d bytes: %x, room %x", many, got, room)
+		}
+		kept := sample.Whole(got)
+		sample.Spoil(got)
+		if !bytes.Equal(b, sample.Drawn(2, many)) || bytes.Equal(kept, sample.Whole(got)) {
+			t.Errorf("%d bytes: memory is shared", many)
+		}
+	}
+}
+
+// Each number is below the one that was asked for, each one that may be comes about as often as others, and the same row comes again.
+func TestDraw(t *testing.T) {
+	for seed := range uint64(20) {
+		one, two := sample.Draw(seed), sample.Draw(seed)
+		for _, below := range []int{1, 2, 3, 16, 100} {
+			times := make([]int, below)
+			for range 200 * below {
+				n := one(below)
+				if n < 0 || n >= below || n != two(below) {
+					t.Fatalf("seed %d: %d below %d", seed, n, below)
+				}
+				times[n]++
+			}
+			for n, many := range times {
+				if many < 100 || many > 300 {
+					t.Errorf("seed %d, below %d: %d comes %d times", seed, below, n, many)
+				}
+			}
+		}
+	}
+}

@@ -239,19 +239,6 @@ func (p place) refuses(t *testing.T, c call, given []byte, want api.Errno) {
 	}
 }
 
-// spoil makes each byte another one, with the room behind the last.
-func spoil(b []byte) {
-	b = b[:cap(b)]
-	for i := range b {
-		b[i] ^= 0xff
-	}
-}
-
-// roomy are the same bytes with room behind them, filled with what must stay.
-func roomy(b []byte) []byte { return append(bytes.Clone(b), sample.Drawn(99, 300)...)[:len(b)] }
-
-func whole(b []byte) []byte { return bytes.Clone(b[:cap(b)]) }
-
 func drawn(many int) []byte { return sample.Drawn(uint64(many), many) }
 
 // hex reads 64 hexadecimal digits.

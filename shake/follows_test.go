@@ -174,18 +174,18 @@ func TestLeavesWhatIsGiven(t *testing.T) {
 		for _, p := range k.places(t) {
 			for _, c := range k.calls() {
 				q := p.clone()
-				b := roomy(c.given)
-				kept := whole(b)
+				b := sample.Roomy(c.given)
+				kept := sample.Whole(b)
 				got, e := c.make(q.s, b)
-				if !bytes.Equal(whole(b), kept) {
+				if !bytes.Equal(sample.Whole(b), kept) {
 					t.Errorf("%s: %s: %d bytes, or what is behind them, are changed", p.what(), c.name, len(b))
 				}
 				answered := bytes.Clone(got)
-				spoil(b)
+				sample.Spoil(b)
 				if !bytes.Equal(got, answered) {
 					t.Errorf("%s: %s: what was answered shares bytes with what was given", p.what(), c.name)
 				}
-				spoil(got)
+				sample.Spoil(got)
 				if c.at == p.at {
 					q.at++
 				}
@@ -214,13 +214,13 @@ func TestLeavesWhatIsRefused(t *testing.T) {
 			{sample.Turned(c.given, 8*len(c.given)-1), api.ErrForged}, {make([]byte, 100), api.ErrZero},
 			{c.given[:40], api.ErrShort}, {make([]byte, 300), api.ErrLong},
 		} {
-			b := roomy(x.b)
-			kept := whole(b)
+			b := sample.Roomy(x.b)
+			kept := sample.Whole(b)
 			p.refuses(t, c, b, x.want)
-			if !bytes.Equal(whole(b), kept) {
+			if !bytes.Equal(sample.Whole(b), kept) {
 				t.Errorf("%s: %d bytes, or what is behind them, are changed", c.name, len(b))
 			}
-			spoil(b)
+			sample.Spoil(b)
 			p.look(t)
 		}
 	}

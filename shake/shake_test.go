@@ -276,9 +276,9 @@ func TestOtherAndKeys(t *testing.T) {
 		}
 		other, _ := p.s.Other()
 		keys, _ := p.s.Keys()
-		spoil(other[:])
-		spoil(keys.From[:])
-		spoil(keys.To[:])
+		sample.Spoil(other[:])
+		sample.Spoil(keys.From[:])
+		sample.Spoil(keys.To[:])
 		p.look(t)
 	}
 }

@@ -169,18 +169,5 @@ func places(t *testing.T) []place {
 	return append(keyless(t), keyed(t)...)
 }
 
-// spoil makes each byte another one, with the room behind the last.
-func spoil(b []byte) {
-	b = b[:cap(b)]
-	for i := range b {
-		b[i] ^= 0xff
-	}
-}
-
-// roomy are the same bytes with room behind them, filled with what must stay.
-func roomy(b []byte) []byte { return append(bytes.Clone(b), sample.Drawn(99, 200)...)[:len(b)] }
-
-func whole(b []byte) []byte { return bytes.Clone(b[:cap(b)]) }
-
 // hex reads 64 hexadecimal digits.
 func hex(digits string) api.Key { return api.Key(sample.Hex(digits)) }

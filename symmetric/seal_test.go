@@ -235,18 +235,18 @@ func TestOpenHangsOnHashNumberAndKey(t *testing.T) {
 func TestSealAndOpenLeaveWhatTheyAreGiven(t *testing.T) {
 	for _, p := range places(t) {
 		for _, many := range lengths {
-			text := roomy(drawn(many))
-			kept := whole(text)
+			text := sample.Roomy(drawn(many))
+			kept := sample.Whole(text)
 			q, twin := p.clone(), p.clone()
 			sealed, same := q.s.Seal(text), bytes.Clone(q.m.seal(text))
-			if !bytes.Equal(whole(text), kept) || !bytes.Equal(sealed, same) {
+			if !bytes.Equal(sample.Whole(text), kept) || !bytes.Equal(sealed, same) {
 				t.Errorf("%s: %d bytes, or what is behind them, are changed", p.what, many)
 			}
-			spoil(text)
+			sample.Spoil(text)
 			if !bytes.Equal(sealed, same) {
 				t.Errorf("%s: %d bytes: what was sealed hangs on the text", p.what, many)
 			}
-			spoil(sealed)
+			sample.Spoil(sealed)
 			q.look(t)
 			if !bytes.Equal(text[:many], inverted(kept[:many])) {
 				t.Errorf("%s: %d bytes: the text hangs on what was sealed", p.what, many)
@@ -267,18 +267,18 @@ func inverted(b []byte) []byte {
 // opensApart holds that a text and what it is opened from have nothing in common, and the state nothing with either.
 func opensApart(t *testing.T, p *pair, sealed, text []byte) {
 	t.Helper()
-	b := roomy(sealed)
-	kept := whole(b)
+	b := sample.Roomy(sealed)
+	kept := sample.Whole(b)
 	got, e := p.s.Open(b)
 	p.m.seal(text)
-	if e != api.OK || !bytes.Equal(got, text) || !bytes.Equal(whole(b), kept) {
+	if e != api.OK || !bytes.Equal(got, text) || !bytes.Equal(sample.Whole(b), kept) {
 		t.Errorf("%x, error %d, not %x; or what was handed in is changed", got, e, text)
 	}
-	spoil(b)
+	sample.Spoil(b)
 	if !bytes.Equal(got, text) {
 		t.Errorf("the text %x hangs on what was handed in", text)
 	}
-	spoil(got)
+	sample.Spoil(got)
 	if !bytes.Equal(b, inverted(sealed)) {
 		t.Errorf("what was handed in hangs on the text %x", text)
 	}
@@ -289,10 +289,10 @@ func opensApart(t *testing.T, p *pair, sealed, text []byte) {
 func TestRefusedBytesStay(t *testing.T) {
 	for _, p := range keyed(t) {
 		for _, many := range lengths {
-			b := roomy(drawn(many))
-			kept := whole(b)
+			b := sample.Roomy(drawn(many))
+			kept := sample.Whole(b)
 			p.s.Open(b)
-			if !bytes.Equal(whole(b), kept) {
+			if !bytes.Equal(sample.Whole(b), kept) {
 				t.Errorf("%s: %d bytes, or what is behind them, are changed", p.what, many)
 			}
 			p.look(t)

@@ -333,13 +333,13 @@ func TestMixAndKeyLeaveWhatTheyAreGiven(t *testing.T) {
 				func(p *pair, b []byte) { p.key(t, b) },
 			} {
 				q := p.clone()
-				b := roomy(drawn(many))
-				kept := whole(b)
+				b := sample.Roomy(drawn(many))
+				kept := sample.Whole(b)
 				take(q, b)
-				if !bytes.Equal(whole(b), kept) {
+				if !bytes.Equal(sample.Whole(b), kept) {
 					t.Errorf("%s: %d bytes, or what is behind them, are changed", p.what, many)
 				}
-				spoil(b)
+				sample.Spoil(b)
 				q.look(t)
 				q.seal(t, drawn(5))
 			}

@@ -9,23 +9,6 @@ import (
 	"sheave/window"
 )
 
-// draw are numbers without a rule, each below the one that is asked for.
-func draw(seed uint64) func(below int) int {
-	b := sample.Drawn(seed, 1<<16)
-	return func(below int) int {
-		n := 0
-		for range 6 {
-			if len(b) == 0 {
-				seed += 1 << 32
-				b = sample.Drawn(seed, 1<<16)
-			}
-			n = n<<8 | int(b[0])
-			b = b[1:]
-		}
-		return n % below
-	}
-}
-
 // P14.4: neither of the two sees what is done to the other, nor does one more of the first.
 func TestClone(t *testing.T) {
 	for _, p := range histories(t) {
@@ -94,7 +77,7 @@ func TestNoneTwice(t *testing.T) {
 	}
 	for name, way := range ways {
 		for seed := range uint64(6) {
-			d := draw(seed<<8 + uint64(len(name)))
+			d := sample.Draw(seed<<8 + uint64(len(name)))
 			p := newPair(t)
 			taken := map[int]bool{}
 			for i := range 2500 {
@@ -121,7 +104,7 @@ func TestNoneTwice(t *testing.T) {
 func TestEachOnce(t *testing.T) {
 	for _, long := range []int{1, 2, 64, 65, 1023, 1024, 1500} {
 		for _, from := range []int{0, 1, 77777, last - long + 1} {
-			d := draw(uint64(long))
+			d := sample.Draw(uint64(long))
 			w := window.New()
 			times := make([]int, long)
 			for range 4 {
