@@ -384,13 +384,3 @@ func histories(t *testing.T) map[string]*pair {
 	}
 	return l
 }
-
-// shuffled are the same in an order without a rule.
-func shuffled[T any](l []T, d func(int) int) []T {
-	l = slices.Clone(l)
-	for i := range l {
-		j := i + d(len(l)-i)
-		l[i], l[j] = l[j], l[i]
-	}
-	return l
-}

@@ -102,7 +102,7 @@ func TestJustOnce(t *testing.T) {
 			}
 		}
 		for range 3 {
-			for _, x := range shuffled(l, d) {
+			for _, x := range sample.Shuffled(l, d) {
 				b.take(x)
 			}
 		}
@@ -127,7 +127,7 @@ func TestTooOld(t *testing.T) {
 			l = append(l, a.send(9, nil, used))
 		}
 		top := -1
-		for _, x := range shuffled(l, d) {
+		for _, x := range sample.Shuffled(l, d) {
 			want := api.OK
 			if x.counter <= top-sight {
 				want = api.ErrOld

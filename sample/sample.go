@@ -3,6 +3,7 @@ package sample
 
 import (
 	"bytes"
+	"slices"
 	"strconv"
 )
 
@@ -75,4 +76,14 @@ func Draw(seed uint64) func(below int) int {
 		b = b[size:]
 		return n % below
 	}
+}
+
+// Shuffled are the same things in an order without a rule, by such a draw.
+func Shuffled[T any](l []T, draw func(below int) int) []T {
+	l = slices.Clone(l)
+	for i := range l {
+		j := i + draw(len(l)-i)
+		l[i], l[j] = l[j], l[i]
+	}
+	return l
 }

@@ -3,6 +3,7 @@ package sample_test
 import (
 	"bytes"
 	"encoding/hex"
+	"slices"
 	"testing"
 
 	"sheave/sample"
@@ -118,5 +119,31 @@ func TestDraw(t *testing.T) {
 				}
 			}
 		}
+	}
+}
+
+// The same things in another order, each order that may be about as often as others; what was handed in stays as it was.
+func TestShuffled(t *testing.T) {
+	draw := sample.Draw(5)
+	times := map[[4]int]int{}
+	for range 24 * 200 {
+		l := []int{1, 2, 3, 4}
+		got := sample.Shuffled(l, draw)
+		times[[4]int(got)]++
+		slices.Sort(got)
+		if !slices.Equal(got, l) || !slices.Equal(l, []int{1, 2, 3, 4}) {
+			t.Fatalf("%v of %v", got, l)
+		}
+	}
+	for order, many := range times {
+		if many < 100 || many > 300 {
+			t.Errorf("%v comes %d times", order, many)
+		}
+	}
+	if len(times) != 24 {
+		t.Errorf("%d orders", len(times))
+	}
+	if got := sample.Shuffled([]int{}, draw); len(got) != 0 {
+		t.Errorf("%v of nothing", got)
 	}
 }

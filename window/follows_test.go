@@ -112,11 +112,7 @@ func TestEachOnce(t *testing.T) {
 				for i := range order {
 					order[i] = i
 				}
-				for i := range order {
-					j := i + d(long-i)
-					order[i], order[j] = order[j], order[i]
-				}
-				for _, n := range order {
+				for _, n := range sample.Shuffled(order, d) {
 					if w.Mark(from+n) == api.OK {
 						times[n]++
 					}
