@@ -137,13 +137,7 @@ func small() []api.Frame {
 
 // wrong are frames that may not be, by what is wrong in each.
 func wrong() map[string]api.Frame {
-	r := func(n ...int) []api.Range {
-		var l []api.Range
-		for i := 0; i < len(n); i += 2 {
-			l = append(l, api.Range{From: n[i], To: n[i+1]})
-		}
-		return l
-	}
+	r := sample.Rows
 	return map[string]api.Frame{
 		"no kind":                               {},
 		"data without bytes":                    data(1, nil),

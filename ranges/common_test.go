@@ -7,6 +7,7 @@ import (
 
 	"sheave/api"
 	"sheave/ranges"
+	"sheave/sample"
 )
 
 const (
@@ -212,14 +213,7 @@ func allEdges() map[string][]int {
 	}
 }
 
-// rows are ranges, by their ends one behind the other.
-func rows(ends ...int) []api.Range {
-	var l []api.Range
-	for i := 0; i < len(ends); i += 2 {
-		l = append(l, api.Range{From: ends[i], To: ends[i+1]})
-	}
-	return l
-}
+var rows = sample.Rows
 
 // of are the numbers of some rows.
 func of(l []api.Range) *ranges.Ranges {

@@ -5,6 +5,8 @@ import (
 	"bytes"
 	"slices"
 	"strconv"
+
+	"sheave/api"
 )
 
 // Hex reads bytes from hexadecimal digits. It panics at what is none, since that is a slip in the test itself.
@@ -84,6 +86,15 @@ func Shuffled[T any](l []T, draw func(below int) int) []T {
 	for i := range l {
 		j := i + draw(len(l)-i)
 		l[i], l[j] = l[j], l[i]
+	}
+	return l
+}
+
+// Rows are ranges, by their ends one behind the other.
+func Rows(ends ...int) []api.Range {
+	var l []api.Range
+	for i := 0; i < len(ends); i += 2 {
+		l = append(l, api.Range{From: ends[i], To: ends[i+1]})
 	}
 	return l
 }

@@ -6,6 +6,7 @@ import (
 	"slices"
 	"testing"
 
+	"sheave/api"
 	"sheave/sample"
 )
 
@@ -145,5 +146,16 @@ func TestShuffled(t *testing.T) {
 	}
 	if got := sample.Shuffled([]int{}, draw); len(got) != 0 {
 		t.Errorf("%v of nothing", got)
+	}
+}
+
+// Two ends a range, in the order that they are written in; of no ends there is none.
+func TestRows(t *testing.T) {
+	want := []api.Range{{From: 2, To: 5}, {From: 9, To: 7}, {From: -1, To: -1}}
+	if got := sample.Rows(2, 5, 9, 7, -1, -1); !slices.Equal(got, want) {
+		t.Errorf("%v", got)
+	}
+	if got := sample.Rows(); len(got) != 0 {
+		t.Errorf("%v of no ends", got)
 	}
 }
