@@ -13,12 +13,7 @@ import (
 
 const mostSize = 1 << 20
 
-var rows = sample.Rows
-
-// edges are numbers at which sums may go wrong.
-func edges() []int {
-	return []int{math.MinInt, math.MinInt + 1, -1 << 62, -5, -1, 1 << 62, math.MaxInt - 1, math.MaxInt}
-}
+var rows, edges = sample.Rows, sample.Edges
 
 // How far a byte is.
 const (

@@ -9,20 +9,6 @@ import (
 	"sheave/sample"
 )
 
-// permuted are all orders of some rows.
-func permuted(l []api.Range) [][]api.Range {
-	if len(l) < 2 {
-		return [][]api.Range{l}
-	}
-	var all [][]api.Range
-	for i, x := range l {
-		for _, others := range permuted(slices.Concat(l[:i], l[i+1:])) {
-			all = append(all, append([]api.Range{x}, others...))
-		}
-	}
-	return all
-}
-
 // P17.4: the same numbers, however they are cut, in each order that there is: all that is told is the same.
 func TestEachOrder(t *testing.T) {
 	edges := counted(0, 30)
@@ -37,7 +23,7 @@ func TestEachOrder(t *testing.T) {
 			want.add(x.From, x.To)
 		}
 		for _, way := range ways {
-			for _, l := range permuted(way) {
+			for _, l := range sample.Orders(way) {
 				p := &pair{t: t, r: ranges.New(), m: want.m}
 				many := 0
 				for _, x := range l {

@@ -3,6 +3,7 @@ package sample
 
 import (
 	"bytes"
+	"math"
 	"slices"
 	"strconv"
 
@@ -90,6 +91,20 @@ func Shuffled[T any](l []T, draw func(below int) int) []T {
 	return l
 }
 
+// Orders are the same things in each order that there is.
+func Orders[T any](l []T) [][]T {
+	if len(l) == 0 {
+		return [][]T{nil}
+	}
+	var all [][]T
+	for i, x := range l {
+		for _, others := range Orders(slices.Concat(l[:i], l[i+1:])) {
+			all = append(all, append([]T{x}, others...))
+		}
+	}
+	return all
+}
+
 // Rows are ranges, by their ends one behind the other.
 func Rows(ends ...int) []api.Range {
 	var l []api.Range
@@ -97,4 +112,9 @@ func Rows(ends ...int) []api.Range {
 		l = append(l, api.Range{From: ends[i], To: ends[i+1]})
 	}
 	return l
+}
+
+// Edges are numbers, below all places in a stream or beyond them, at which sums may go wrong.
+func Edges() []int {
+	return []int{math.MinInt, math.MinInt + 1, -1 << 62, -5, -1, 1 << 62, math.MaxInt - 1, math.MaxInt}
 }

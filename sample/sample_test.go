@@ -3,6 +3,7 @@ package sample_test
 import (
 	"bytes"
 	"encoding/hex"
+	"math"
 	"slices"
 	"testing"
 
@@ -149,6 +150,19 @@ func TestShuffled(t *testing.T) {
 	}
 }
 
+// Each order once; of nothing there is one; what was handed in stays as it was.
+func TestOrders(t *testing.T) {
+	l := []int{1, 2, 3}
+	got := sample.Orders(l)
+	want := [][]int{{1, 2, 3}, {1, 3, 2}, {2, 1, 3}, {2, 3, 1}, {3, 1, 2}, {3, 2, 1}}
+	if !slices.EqualFunc(got, want, slices.Equal) || !slices.Equal(l, []int{1, 2, 3}) {
+		t.Errorf("%v of %v", got, l)
+	}
+	if got := sample.Orders([]int{}); len(got) != 1 || len(got[0]) != 0 {
+		t.Errorf("%v of nothing", got)
+	}
+}
+
 // Two ends a range, in the order that they are written in; of no ends there is none.
 func TestRows(t *testing.T) {
 	want := []api.Range{{From: 2, To: 5}, {From: 9, To: 7}, {From: -1, To: -1}}
@@ -157,5 +171,22 @@ func TestRows(t *testing.T) {
 	}
 	if got := sample.Rows(); len(got) != 0 {
 		t.Errorf("%v of no ends", got)
+	}
+}
+
+// Rising, the least and the greatest number among them, none of them a place in a stream, and the caller's own each time.
+func TestEdges(t *testing.T) {
+	l := sample.Edges()
+	if !slices.IsSorted(l) || l[0] != math.MinInt || l[len(l)-1] != math.MaxInt {
+		t.Errorf("%d", l)
+	}
+	for i, n := range l {
+		if n >= 0 && n <= api.MaxVar {
+			t.Errorf("%d is a place", n)
+		}
+		l[i] = 7
+	}
+	if slices.Contains(sample.Edges(), 7) {
+		t.Errorf("%d", sample.Edges())
 	}
 }
