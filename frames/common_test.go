@@ -420,9 +420,4 @@ func isNotDecoded(t *testing.T, b []byte, want api.Errno) {
 	}
 }
 
-func spoilRanges(l []api.Range) {
-	l = l[:cap(l)]
-	for i := range l {
-		l[i] = api.Range{From: -5, To: -6}
-	}
-}
+func spoilRanges(l []api.Range) { sample.Fill(l, api.Range{From: -5, To: -6}) }

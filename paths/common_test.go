@@ -218,12 +218,7 @@ func (p *pair) sample(id, ticks int) {
 }
 
 // spoil makes each number another one, with the room behind the last: who still leans on them then is seen.
-func spoil(l []int) {
-	l = l[:cap(l)]
-	for i := range l {
-		l[i] = -7
-	}
-}
+func spoil(l []int) { sample.Fill(l, -7) }
 
 // numbers are all that a path may have, some beside them, and those at which sums may go wrong.
 func numbers() []int {

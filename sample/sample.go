@@ -56,6 +56,14 @@ func Spoil(b []byte) {
 	}
 }
 
+// Fill makes each thing of a list the same, with the room behind the last, as Spoil does with bytes.
+func Fill[T any](l []T, x T) {
+	l = l[:cap(l)]
+	for i := range l {
+		l[i] = x
+	}
+}
+
 // Roomy are the same bytes with room behind them, filled with what must stay.
 func Roomy(b []byte) []byte { return append(bytes.Clone(b), Drawn(99, 400)...)[:len(b)] }
 

@@ -85,6 +85,16 @@ func TestSpoil(t *testing.T) {
 	sample.Spoil(nil)
 }
 
+// Every thing is the one that is asked for, those behind the last too, and none outside.
+func TestFill(t *testing.T) {
+	all := []int{1, 2, 3, 4, 5}
+	sample.Fill(all[1:2:4], 9)
+	if want := []int{1, 9, 9, 9, 5}; !slices.Equal(all, want) {
+		t.Errorf("%d, not %d", all, want)
+	}
+	sample.Fill(nil, api.Range{})
+}
+
 // The same bytes, of their own, with room behind them that is not of noughts.
 func TestRoomyAndWhole(t *testing.T) {
 	for _, many := range []int{0, 1, 40} {
